@@ -1,0 +1,1 @@
+"""Fewchairs: halls with few chairs, where the order of coming need not count."""

@@ -1,0 +1,106 @@
+"""What several tests need: plain ways to go through all rows, crowds and customs of small houses."""
+
+import itertools
+import unittest
+
+from fewchairs.customs import Custom
+from fewchairs.houses import House
+
+MANY = 10 ** 18
+
+
+class Case(unittest.TestCase):
+    """A test case that can check an error together with its fields."""
+
+    def fails(self, error, fields, call, *args, **named):
+        with self.assertRaises(error) as caught:
+            call(*args, **named)
+        self.assertIs(type(caught.exception), error)
+        self.assertEqual(vars(caught.exception), fields)
+
+
+def all_crowds(bound):
+    """All crowds within the bound, ascending."""
+    return list(itertools.product(*[range(count + 1) for count in bound]))
+
+
+def all_rows(crowd):
+    """All different rows of the crowd, in the order of lists."""
+    if sum(crowd) == 0:
+        return [[]]
+    rows = []
+    for kind, count in enumerate(crowd):
+        if count:
+            fewer = list(crowd)
+            fewer[kind] -= 1
+            rows += [[kind] + row for row in all_rows(tuple(fewer))]
+    return rows
+
+
+def all_customs(house):
+    """All customs of the house, in ascending order of their answers."""
+    choices = [[kind for kind in range(house.kinds) if meeting[kind]]
+               for meeting in crowds_of_size(house, house.chairs + 1)]
+    return [Custom(house, list(answers)) for answers in itertools.product(*choices)]
+
+
+def crowds_of_size(house, number):
+    """All crowds of the house of this size, found by going through all small ones."""
+    bound = [min(most, number) for most in house.most]
+    return [crowd for crowd in all_crowds(bound) if sum(crowd) == number]
+
+
+def counted(guests, kinds):
+    """The crowd of the guests."""
+    return tuple(guests.count(kind) for kind in range(kinds))
+
+
+def plain_run(custom, row):
+    """The pairs of who goes and who sits, by the words of [13]."""
+    kinds = custom.house.kinds
+    answers = dict(zip(crowds_of_size(custom.house, custom.house.chairs + 1), custom.answers))
+    sitting, pairs = [], []
+    for kind in row:
+        goes = None
+        sitting.append(kind)
+        if len(sitting) > custom.house.chairs:
+            goes = answers[counted(sitting, kinds)]
+            sitting.remove(goes)
+        pairs.append((goes, counted(sitting, kinds)))
+    return pairs
+
+
+def plain_left(custom, row):
+    """The crowd that the row leaves."""
+    pairs = plain_run(custom, row)
+    return pairs[-1][1] if pairs else (0,) * custom.house.kinds
+
+
+def plain_ends(custom, crowd):
+    """A dict from each end of the crowd to the number of its rows."""
+    ends = {}
+    for row in all_rows(crowd):
+        end = plain_left(custom, row)
+        ends[end] = ends.get(end, 0) + 1
+    return ends
+
+
+def plainly_free(custom):
+    """Whether all rows of each crowd of the (small) house leave the same crowd."""
+    return all(len(plain_ends(custom, crowd)) == 1 for crowd in all_crowds(custom.house.most))
+
+
+SMALL_HOUSES = [
+    House(1, 1, most=(1,)),
+    House(1, 2, most=(5,)),
+    House(2, 1, most=(1, 1)),
+    House(2, 1, most=(2, 3)),
+    House(2, 2, most=(3, 3)),
+    House(2, 3, most=(4, 2)),
+    House(3, 1, most=(2, 1, 1)),
+    House(3, 1, most=(1, 1, 1)),
+    House(3, 2, most=(2, 2, 1)),
+    House(3, 2, most=(1, 1, 1)),
+    House(4, 2, most=(1, 1, 1, 1)),
+    House(4, 3, most=(1, 1, 1, 2)),
+]
