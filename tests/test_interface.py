@@ -1,0 +1,118 @@
+"""The names, arguments and places of the interface of DOC.md, for the files that exist."""
+
+import importlib
+import inspect
+import unittest
+
+FUNCTIONS = {
+    "crowds": {
+        "size": "(crowd)", "plus": "(first, second)", "minus": "(first, second)",
+        "within": "(first, second)", "lesser": "(first, second)", "greater": "(first, second)",
+        "kinds_in": "(crowd)", "crowd_of": "(kinds, *guests)", "row_of": "(crowd)",
+        "parts": "(crowd, number)",
+    },
+    "customnumbers": {
+        "count_customs": "(house)", "custom_at": "(house, number)", "number_of": "(custom)",
+    },
+    "makers": {
+        "order_custom": "(house, order)", "most_custom": "(house)", "fewest_custom": "(house)",
+        "middle_custom": "(house)",
+    },
+    "runs": {"steps": "(custom, row)", "left": "(custom, row)"},
+    "look": {
+        "look": "(custom, group)", "given_up": "(custom, group)", "passes": "(custom, group)",
+        "first_fault": "(custom)", "is_free": "(custom)",
+    },
+    "judge": {"judge": "(custom)", "holds": "(custom, certificate)"},
+    "floors": {"floor": "(custom, crowd)", "floor_meeting": "(custom, crowd, kind)"},
+    "calm": {"trouble": "(custom, crowd)"},
+    "ends": {
+        "ends": "(custom, crowd)", "row_to": "(custom, crowd, end)",
+        "chance": "(custom, crowd, kind, number)", "surely": "(custom, crowd)",
+    },
+}
+
+CLASSES = {
+    ("houses", "House"): {
+        "__init__": "(self, kinds, chairs, *, most=())", "unlike": "(people, chairs)",
+        "crowds": "(self, number)", "meetings": "(self)", "groups": "(self)",
+        "small_crowds": "(self)", "has": "(self, crowd)", "check": "(self, crowd)",
+        "same_guests": "(self, other)", "__eq__": "(self, other)",
+    },
+    ("customs", "Custom"): {
+        "__init__": "(self, house, answers)", "__eq__": "(self, other)",
+        "__call__": "(self, meeting)", "who_goes": "(self, meeting)", "table": "(self)",
+        "renamed": "(self, names)", "of": "(house, table)",
+    },
+    ("drafts", "Draft"): {
+        "__init__": "(self, house)", "__setitem__": None, "__getitem__": None, "__iter__": "(self)",
+        "put": "(self, meeting, kind)", "drop": "(self, meeting)", "missing": "(self)",
+        "finished": "(self)",
+    },
+    ("halls", "Hall"): {
+        "__init__": "(self, custom)", "come": "(self, kind)", "again": "(self, kind)",
+        "sitting": property, "came": property, "away": property, "free": property,
+    },
+    ("halls", "LoggedHall"): {
+        "__init__": "(self, custom)", "come": "(self, kind)", "again": "(self, kind)", "log": property,
+    },
+    ("halls", "CountedHall"): {
+        "__init__": "(self, custom)", "come": "(self, kind)", "again": "(self, kind)", "sent": property,
+    },
+    ("halls", "BookHall"): {"come": "(self, kind)", "again": "(self, kind)"},
+    ("rules", "Rule"): {
+        "__init__": "(self, custom)", "end": "(self, crowd)", "cap": "(self, kind, crowd)",
+        "__rshift__": "(self, other)", "__eq__": "(self, other)", "sure": property,
+    },
+}
+
+CLASSMETHODS = {("houses", "House", "unlike")}
+STATICMETHODS = {("customs", "Custom", "of")}
+
+
+def module(name):
+    return importlib.import_module("fewchairs." + name)
+
+
+class Interface(unittest.TestCase):
+    def test_each_function_is_defined_in_its_file_with_its_arguments(self):
+        for name, functions in FUNCTIONS.items():
+            for function, arguments in functions.items():
+                with self.subTest(file=name, function=function):
+                    found = getattr(module(name), function)
+                    self.assertTrue(inspect.isfunction(found))
+                    self.assertEqual(found.__module__, "fewchairs." + name)
+                    self.assertEqual(str(inspect.signature(found)), arguments)
+
+    def test_each_class_is_defined_in_its_file(self):
+        for name, class_name in CLASSES:
+            with self.subTest(file=name, name=class_name):
+                self.assertEqual(getattr(module(name), class_name).__module__, "fewchairs." + name)
+
+    def test_each_method_stands_in_the_class_itself(self):
+        for (name, class_name), methods in CLASSES.items():
+            found = getattr(module(name), class_name)
+            for method, arguments in methods.items():
+                with self.subTest(file=name, name=class_name, method=method):
+                    self.assertIn(method, vars(found))
+                    own = vars(found)[method]
+                    if arguments is property:
+                        self.assertIsInstance(own, property)
+                        self.assertIsNone(own.fset)
+                    elif arguments is not None:
+                        self.assertEqual(str(inspect.signature(getattr(found, method))), arguments)
+                    self.assertEqual(isinstance(own, classmethod), (name, class_name, method) in CLASSMETHODS)
+                    self.assertEqual(isinstance(own, staticmethod), (name, class_name, method) in STATICMETHODS)
+
+    def test_parts_is_a_generator(self):
+        self.assertTrue(inspect.isgeneratorfunction(module("crowds").parts))
+
+    def test_families_of_halls(self):
+        halls = module("halls")
+        self.assertEqual(halls.LoggedHall.__bases__, (halls.Hall,))
+        self.assertEqual(halls.CountedHall.__bases__, (halls.Hall,))
+        self.assertEqual(halls.BookHall.__bases__, (halls.LoggedHall, halls.CountedHall))
+
+
+if __name__ == "__main__":
+    unittest.main()
