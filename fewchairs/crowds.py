@@ -82,6 +82,16 @@ def parts(crowd, number):
         part = _next_part(crowd, part)
 
 
+def part_list(crowd, number):
+    """The list of what `parts` yields; it stands by itself, since operators and properties use no generator."""
+    found = []
+    part = _first_part(crowd, number)
+    while part is not None:
+        found.append(part)
+        part = _next_part(crowd, part)
+    return found
+
+
 def _first_part(crowd, number):
     """The least crowd of this size within the crowd, or None if there is none."""
     if not 0 <= number <= size(crowd):

@@ -1,6 +1,6 @@
 """Houses: so many kinds, so many chairs, and the most guests of each kind."""
 
-from fewchairs.crowds import parts
+from fewchairs.crowds import part_list
 from fewchairs.errors import BadCrowd, BadHouse, TooLarge
 
 MOST_SMALL_CROWDS = 1024
@@ -42,7 +42,7 @@ class House:
 
     def crowds(self, number):
         """The list of the crowds of this size."""
-        return list(parts(self.most, number))
+        return part_list(self.most, number)
 
     def meetings(self):
         """The list of the meetings."""

@@ -3,7 +3,7 @@
 import itertools
 import unittest
 
-from fewchairs.crowds import (crowd_of, greater, kinds_in, lesser, minus, parts, plus, row_of, size,
+from fewchairs.crowds import (crowd_of, greater, kinds_in, lesser, minus, part_list, parts, plus, row_of, size,
                               within)
 from fewchairs.errors import BadCrowd, BadKind, TooLarge
 from tests.helpers import MANY, Case, all_crowds
@@ -130,6 +130,13 @@ class Parts(Case):
         self.assertEqual(next(one), (0, 1))
         self.assertEqual(list(other), [(0, 1), (1, 0)])
         self.assertEqual(list(one), [(1, 0)])
+
+    def test_the_list_of_them(self):
+        for crowd in [(3,), (0, 0), (2, 2), (1, 0, 2), (0, 2, 0, 3), (MANY, 1, MANY)]:
+            for number in range(-1, 9):
+                self.assertEqual(part_list(crowd, number), list(parts(crowd, number)))
+        part_list((2, 2), 2).append(None)
+        self.assertEqual(part_list((2, 2), 2), [(0, 2), (1, 1), (2, 0)])
 
 
 if __name__ == "__main__":
