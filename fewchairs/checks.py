@@ -1,13 +1,32 @@
 """What several files check of their arguments."""
 
 from fewchairs.crowds import size
-from fewchairs.errors import BadCrowd, BadKind, BadOrder
+from fewchairs.errors import BadCrowd, BadKind, BadOrder, WrongHouse
 
 
 def check_kind(house, kind):
     """Raises BadKind if the house does not have the kind."""
-    if not 0 <= kind < house.kinds:
+    check_kind_of(house.kinds, kind)
+
+
+def check_kind_of(kinds, kind):
+    """Raises BadKind if the kind is not one of so many kinds."""
+    if not 0 <= kind < kinds:
         raise BadKind(kind)
+
+
+def check_counts(kinds, crowd):
+    """Raises BadCrowd if the tuple does not have so many counts, none below 0."""
+    if len(crowd) != kinds or not all([count >= 0 for count in crowd]):
+        raise BadCrowd(crowd)
+
+
+def check_wide(kinds, house):
+    """Raises WrongHouse if the house does not have so many kinds or is not wide."""
+    if house.kinds != kinds:
+        raise WrongHouse("kinds")
+    if not all([bound > house.chairs for bound in house.most]):
+        raise WrongHouse("most")
 
 
 def check_order(kinds, order):

@@ -5,6 +5,10 @@ import unittest
 
 from fewchairs.customs import Custom
 from fewchairs.houses import House
+from fewchairs.look import is_free
+from fewchairs.makers import order_custom
+from fewchairs.rules import Rule
+from fewchairs.shares import Shares
 
 MANY = 10 ** 18
 
@@ -104,3 +108,31 @@ SMALL_HOUSES = [
     House(4, 2, most=(1, 1, 1, 1)),
     House(4, 3, most=(1, 1, 1, 2)),
 ]
+
+RULES = [Rule(custom) for house in SMALL_HOUSES for custom in all_customs(house) if is_free(custom)]
+
+
+def order_rule(house, order):
+    """The rule of the custom by the order."""
+    return Rule(order_custom(house, order))
+
+
+def crowds_between(low, high):
+    """All crowds between the two, ascending."""
+    return [crowd for crowd in all_crowds(high) if all(count >= least for count, least in zip(crowd, low))]
+
+
+# The greatest house with some order-free custom that is not by an order.
+GREATEST = order_rule(House(6, 2), [2, 4, 0, 1, 3, 5]) >> order_rule(House(6, 3), [5, 0, 2, 4, 1, 3])
+
+
+def all_shares(chairs):
+    """All shares with so many chairs: keep ascending, then all letters ascending."""
+    found = []
+    for keep in itertools.product(range(chairs + 1), repeat=3):
+        if sum(keep) == chairs:
+            letters = [[1, 2]] * keep[0] + [[0, 2]] * keep[1] + [[0, 1]] * keep[2]
+            for word in itertools.product(*letters):
+                first, second = keep[0], keep[0] + keep[1]
+                found.append(Shares.spelled(list(word[:first]), list(word[first:second]), list(word[second:])))
+    return found

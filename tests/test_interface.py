@@ -30,6 +30,19 @@ FUNCTIONS = {
         "ends": "(custom, crowd)", "row_to": "(custom, crowd, end)",
         "chance": "(custom, crowd, kind, number)", "surely": "(custom, crowd)",
     },
+    "seatings": {"rule_table": "(rule)", "rule_from": "(house, seats)"},
+    "parties": {"together": "(rule, *crowds)"},
+    "guards": {"guard": "(rule, crowd, kind)", "guards": "(rule, kind, number)"},
+    "compare": {"never_fewer": "(first, second, kind)", "not_inside": "(first, second)"},
+    "between": {
+        "range_of": "(rule, low, high, kind)", "crowd_with": "(rule, low, high, kind, number)",
+        "one_end": "(rule, low, high)",
+    },
+    "twos": {
+        "threshold_of": "(custom)", "threshold_custom": "(chairs, keep)",
+        "two_end": "(chairs, keep, crowd)",
+    },
+    "crossed": {"least_changes": "(answers)"},
 }
 
 CLASSES = {
@@ -64,10 +77,19 @@ CLASSES = {
         "__init__": "(self, custom)", "end": "(self, crowd)", "cap": "(self, kind, crowd)",
         "__rshift__": "(self, other)", "__eq__": "(self, other)", "sure": property,
     },
+    ("parties", "Party"): {
+        "__init__": "(self, rule, crowd)", "__add__": "(self, other)", "__getitem__": None,
+        "__contains__": None, "__iter__": "(self)", "sitting": property,
+    },
+    ("shares", "Shares"): {
+        "__init__": "(self, keep, words)", "spelled": "(first, second, third)", "__eq__": "(self, other)",
+        "letters": "(self, kind)", "gains": "(self, kind, lacking)", "end": "(self, crowd)",
+        "goes": "(self, meeting)",
+    },
 }
 
 CLASSMETHODS = {("houses", "House", "unlike")}
-STATICMETHODS = {("customs", "Custom", "of")}
+STATICMETHODS = {("customs", "Custom", "of"), ("shares", "Shares", "spelled")}
 
 
 def module(name):

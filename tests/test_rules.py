@@ -8,15 +8,8 @@ from fewchairs.houses import House
 from fewchairs.look import first_fault, is_free
 from fewchairs.makers import fewest_custom, most_custom, order_custom
 from fewchairs.rules import Rule
-from tests.helpers import (MANY, SMALL_HOUSES, Case, all_crowds, all_customs, all_rows, counted, plain_ends,
-                           plain_left)
-
-RULES = [Rule(custom) for house in SMALL_HOUSES for custom in all_customs(house) if is_free(custom)]
-
-
-def order_rule(house, order):
-    return Rule(order_custom(house, order))
-
+from tests.helpers import (MANY, RULES, SMALL_HOUSES, Case, all_crowds, all_customs, all_rows, counted,
+                           order_rule, plain_ends, plain_left)
 
 class Making(Case):
     def test_attributes(self):
