@@ -1,6 +1,6 @@
 """What several files check of their arguments."""
 
-from fewchairs.crowds import size
+from fewchairs.crowds import size, within
 from fewchairs.errors import BadCrowd, BadKind, BadOrder, WrongHouse
 
 
@@ -48,3 +48,9 @@ def check_group(house, crowd):
     """Raises BadCrowd if the crowd is not a group of the house."""
     if not house.has(crowd) or size(crowd) != house.chairs + 2:
         raise BadCrowd(crowd)
+
+
+def is_seated(chairs, crowd, end):
+    """Whether the end is a crowd within the crowd that leaves no chair free without need."""
+    return (len(end) == len(crowd) and all([count >= 0 for count in end]) and within(end, crowd)
+            and size(end) == min(chairs, size(crowd)))

@@ -1,6 +1,7 @@
 """Seatings: the ends of the small crowds of a house, from which an order-free custom can be made."""
 
-from fewchairs.crowds import lesser, minus, one_more, size, within
+from fewchairs.checks import is_seated
+from fewchairs.crowds import lesser, minus, one_more
 from fewchairs.customs import Custom
 from fewchairs.errors import BadSeats, Clash
 from fewchairs.rules import Rule
@@ -15,7 +16,7 @@ def rule_from(house, seats):
     """The rule whose ends of the small crowds are the seating."""
     small = house.small_crowds()
     for crowd in small:
-        if crowd not in seats or not _is_seated(house, crowd, seats[crowd]):
+        if crowd not in seats or not is_seated(house.chairs, crowd, seats[crowd]):
             raise BadSeats(crowd)
     known = {crowd: True for crowd in small}
     for crowd in seats:
@@ -24,12 +25,6 @@ def rule_from(house, seats):
     for crowd in small:
         _check_clash(crowd, seats)
     return Rule(Custom(house, [_unseated(house, meeting, seats) for meeting in house.meetings()]))
-
-
-def _is_seated(house, crowd, end):
-    """Whether the end is a crowd within the small crowd that leaves no chair free without need."""
-    return (len(end) == len(crowd) and all([count >= 0 for count in end]) and within(end, crowd)
-            and size(end) == min(house.chairs, size(crowd)))
 
 
 def _check_clash(crowd, seats):

@@ -69,11 +69,16 @@ class Shares:
 
     def _end_beside(self, crowd, kind):
         """The end of a crowd in which this kind lacks guests."""
-        other, third = [found for found in range(3) if found != kind]
+        other, third = others(kind)
         gained = self.gains(kind, self.keep[kind] - crowd[kind])[other]
         chairs = self.chairs - crowd[kind]
         count = min(max(self.keep[other] + gained, chairs - crowd[third]), crowd[other])
         return with_count(with_count(crowd, other, count), third, chairs - count)
+
+
+def others(kind):
+    """The two other kinds, the lesser one first."""
+    return [found for found in range(3) if found != kind]
 
 
 def _is_word(word, kind, length):

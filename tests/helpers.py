@@ -3,6 +3,7 @@
 import itertools
 import unittest
 
+from fewchairs.cardnumbers import cards_at, count_cards
 from fewchairs.customs import Custom
 from fewchairs.houses import House
 from fewchairs.look import is_free
@@ -136,3 +137,8 @@ def all_shares(chairs):
                 first, second = keep[0], keep[0] + keep[1]
                 found.append(Shares.spelled(list(word[:first]), list(word[first:second]), list(word[second:])))
     return found
+
+
+def all_cards(people):
+    """All cards of so many people, in the order of their numbers."""
+    return [cards_at(people, number) for number in range(count_cards(people))]

@@ -43,6 +43,16 @@ FUNCTIONS = {
         "two_end": "(chairs, keep, crowd)",
     },
     "crossed": {"least_changes": "(answers)"},
+    "sharing": {"shares_of": "(custom)", "custom_of_shares": "(shares)"},
+    "sharecount": {
+        "count_shares": "(chairs)", "shares_at": "(chairs, number)", "number_of_shares": "(shares)",
+    },
+    "shareparts": {"parting": "(one, other)", "fewer_crowd": "(one, other, kind)"},
+    "cardtables": {"cards_of": "(custom)", "custom_of_cards": "(cards)"},
+    "cardnumbers": {
+        "count_cards": "(people)", "cards_at": "(people, number)", "number_of_cards": "(cards)",
+    },
+    "leaders": {"leader_rows": "(cards)", "leader_cards": "(cards, row)"},
 }
 
 CLASSES = {
@@ -86,6 +96,15 @@ CLASSES = {
         "letters": "(self, kind)", "gains": "(self, kind, lacking)", "end": "(self, crowd)",
         "goes": "(self, meeting)",
     },
+    ("facts", "Facts"): {
+        "__init__": "(self, chairs)", "tell": "(self, crowd, end)", "drop": "(self, at)", "told": property,
+        "fits": "(self, shares)", "how_many": "(self)", "some": "(self)", "possible": "(self, crowd)",
+        "answer": "(self, crowd)", "quarrel": "(self)",
+    },
+    ("cards", "Cards"): {
+        "__init__": "(self, host, row, cards)", "__eq__": "(self, other)", "goes": "(self, three)",
+        "stay": "(self, people)",
+    },
 }
 
 CLASSMETHODS = {("houses", "House", "unlike")}
@@ -126,8 +145,9 @@ class Interface(unittest.TestCase):
                     self.assertEqual(isinstance(own, classmethod), (name, class_name, method) in CLASSMETHODS)
                     self.assertEqual(isinstance(own, staticmethod), (name, class_name, method) in STATICMETHODS)
 
-    def test_parts_is_a_generator(self):
+    def test_generators(self):
         self.assertTrue(inspect.isgeneratorfunction(module("crowds").parts))
+        self.assertTrue(inspect.isgeneratorfunction(module("leaders").leader_rows))
 
     def test_families_of_halls(self):
         halls = module("halls")

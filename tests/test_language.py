@@ -16,7 +16,7 @@ LIBRARY = {
                   "zip_longest"},
     "collections": {"defaultdict", "deque"},
 }
-BUILTINS = set("""len range enumerate zip min max sum abs sorted reversed int str bool list tuple dict set
+BUILTINS = set("""set len range enumerate zip min max sum abs sorted reversed int str bool list tuple dict set
     isinstance ord repr any all divmod iter next map super NotImplemented ValueError TypeError KeyError
     IndexError LookupError""".split())
 ALL_BUILTINS = {name for name in dir(builtins) if not name.startswith("_")}
@@ -89,8 +89,9 @@ class Imports(unittest.TestCase):
                     continue
                 package, _, file = node.module.partition(".")
                 self.assertEqual(package, "fewchairs", path)
-                defined = {found.name for found in TREES[PACKAGE / (file + ".py")].body
-                           if isinstance(found, (ast.FunctionDef, ast.ClassDef))}
+                above = TREES[PACKAGE / (file + ".py")].body
+                defined = {found.name for found in above if isinstance(found, (ast.FunctionDef, ast.ClassDef))}
+                defined |= {found.targets[0].id for found in above if isinstance(found, ast.Assign)}
                 self.assertLessEqual(names, defined, (path, node.module))
 
     def test_every_import_is_used(self):
@@ -168,7 +169,7 @@ class Names(unittest.TestCase):
 class Code(unittest.TestCase):
     def test_what_is_not_used(self):
         for name, node in nodes(ast.GeneratorExp, ast.Await, ast.AsyncFunctionDef, ast.Global, ast.Set,
-                                ast.SetComp, ast.Try, ast.With, ast.NamedExpr):
+                                ast.Try, ast.With, ast.NamedExpr):
             self.fail((name, node.lineno))
         for name, node in nodes(ast.Constant):
             self.assertNotIsInstance(node.value, (float, complex, bytes), (name, node.lineno))
@@ -176,6 +177,18 @@ class Code(unittest.TestCase):
                 self.assertNotIn("%", node.value, (name, node.lineno))
         for name, node in nodes(ast.BinOp, ast.AugAssign):
             self.assertNotIsInstance(node.op, (ast.Div, ast.MatMult), (name, node.lineno))
+
+    def test_sets_stand_in_sorted_and_len(self):
+        def is_set(node):
+            made = isinstance(node, ast.Call) and isinstance(node.func, ast.Name) and node.func.id == "set"
+            return made or isinstance(node, ast.SetComp)
+
+        within = {id(argument) for _, node in nodes(ast.Call)
+                  if isinstance(node.func, ast.Name) and node.func.id in ("sorted", "len")
+                  for argument in node.args}
+        for name, node in nodes(ast.Call, ast.SetComp):
+            if is_set(node):
+                self.assertIn(id(node), within, (name, node.lineno))
 
     def test_is_stands_beside_none(self):
         for name, node in nodes(ast.Compare):

@@ -6,7 +6,6 @@ import unittest
 from fewchairs.crowds import lesser, minus
 from fewchairs.errors import BadSeats, Clash, TooLarge
 from fewchairs.houses import House
-from fewchairs.rules import Rule
 from fewchairs.seatings import rule_from, rule_table
 from tests.helpers import GREATEST, MANY, RULES, Case, all_crowds, order_rule
 
