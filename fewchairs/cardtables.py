@@ -1,6 +1,7 @@
 """The cards of a custom of unlike people with two chairs, and the custom of cards."""
 
 from fewchairs.cards import Cards
+from fewchairs.checks import check_unlike
 from fewchairs.crowds import crowd_of, kinds_in
 from fewchairs.customs import Custom
 from fewchairs.errors import TooLarge, WrongHouse
@@ -13,8 +14,7 @@ def cards_of(custom):
     house = custom.house
     if house.kinds == 1:
         raise WrongHouse("kinds")
-    if house.most != (1,) * house.kinds:
-        raise WrongHouse("most")
+    check_unlike(house)
     if house.chairs != 2:
         raise WrongHouse("chairs")
     rule = Rule(custom)

@@ -29,6 +29,19 @@ def check_wide(kinds, house):
         raise WrongHouse("most")
 
 
+def check_unlike(house):
+    """Raises WrongHouse if the guests of the house are not unlike."""
+    if house.most != (1,) * house.kinds:
+        raise WrongHouse("most")
+
+
+def check_guests(rules):
+    """Raises WrongHouse if the houses of the rules do not all have the same guests."""
+    for rule in rules:
+        if not rule.house.same_guests(rules[0].house):
+            raise WrongHouse("guests")
+
+
 def check_order(kinds, order):
     """Raises BadOrder if the list does not contain each of the kinds exactly once."""
     for at, kind in enumerate(order):

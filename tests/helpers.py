@@ -8,6 +8,7 @@ from fewchairs.customs import Custom
 from fewchairs.houses import House
 from fewchairs.look import is_free
 from fewchairs.makers import order_custom
+from fewchairs.nets import Net
 from fewchairs.rules import Rule
 from fewchairs.shares import Shares
 
@@ -142,3 +143,23 @@ def all_shares(chairs):
 def all_cards(people):
     """All cards of so many people, in the order of their numbers."""
     return [cards_at(people, number) for number in range(count_cards(people))]
+
+
+def small_nets():
+    """Nets of one, two and three halls with few guests, of all kinds of routes."""
+    nets = []
+    unlike = [order_rule(House.unlike(3, 1), order) for order in ([0, 1, 2], [2, 1, 0], [1, 2, 0])]
+    two = [Rule(custom) for custom in all_customs(House.unlike(3, 2)) if is_free(custom)]
+    routes = [[[0, 1], [1, 0], [1]], [[0, 1], [0, 1], [1, 0]], [[1], [], [0]], [[1, 0], [0, 1], [0]]]
+    for first in unlike + two:
+        for second in unlike:
+            nets += [Net([first, second], route) for route in routes]
+    turning = [[0, 1, 2], [1, 2, 0], [2, 0, 1]]
+    nets += [Net([first, second, unlike[0]], turning) for first in unlike for second in unlike + two[:1]]
+    nets += [Net([rule], [[0], [], [0]]) for rule in unlike + two]
+    kinds = [order_rule(House(2, chairs, most=(2, 2)), order) for chairs in (1, 2) for order in ([0, 1], [1, 0])]
+    middle = Rule(Custom(House(2, 2, most=(2, 2)), [1, 0]))
+    for first in kinds + [middle]:
+        for second in kinds + [middle]:
+            nets += [Net([first, second], route) for route in ([[0, 1], [1, 0]], [[0, 1], [0]])]
+    return nets

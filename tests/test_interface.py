@@ -53,6 +53,14 @@ FUNCTIONS = {
         "count_cards": "(people)", "cards_at": "(people, number)", "number_of_cards": "(cards)",
     },
     "leaders": {"leader_rows": "(cards)", "leader_cards": "(cards, row)"},
+    "cardparts": {"three_parting": "(one, other)"},
+    "hallrows": {"held": "(crowd, *rules)"},
+    "orders": {"order_of": "(rule)", "in_turn": "(house, orders)"},
+    "leading": {"split_leader": "(rule)", "turns_of": "(rule)"},
+    "wishes": {
+        "fits": "(net, crowd, held, home)", "first_wish": "(net, held, home)",
+        "is_stable": "(net, crowd, held, home)", "only_one": "(net, crowd)",
+    },
 }
 
 CLASSES = {
@@ -104,6 +112,18 @@ CLASSES = {
     ("cards", "Cards"): {
         "__init__": "(self, host, row, cards)", "__eq__": "(self, other)", "goes": "(self, three)",
         "stay": "(self, people)",
+    },
+    ("asks", "Asker"): {
+        "__init__": "(self, people)", "next_three": "(self)", "tell": "(self, person)", "learned": "(self)",
+        "asked": property,
+    },
+    ("nets", "Net"): {
+        "__init__": "(self, rules, routes)", "visits": "(self, crowd)", "settle": "(self, crowd)",
+        "settle_late": "(self, crowd)",
+    },
+    ("walks", "Walk"): {
+        "__init__": "(self, net)", "come": "(self, kind)", "step": "(self, kind, hall)", "finish": "(self)",
+        "held": property, "home": property, "came": property, "ways": property,
     },
 }
 

@@ -169,7 +169,7 @@ class Names(unittest.TestCase):
 class Code(unittest.TestCase):
     def test_what_is_not_used(self):
         for name, node in nodes(ast.GeneratorExp, ast.Await, ast.AsyncFunctionDef, ast.Global, ast.Set,
-                                ast.Try, ast.With, ast.NamedExpr):
+                                ast.With, ast.NamedExpr):
             self.fail((name, node.lineno))
         for name, node in nodes(ast.Constant):
             self.assertNotIsInstance(node.value, (float, complex, bytes), (name, node.lineno))
@@ -177,6 +177,13 @@ class Code(unittest.TestCase):
                 self.assertNotIn("%", node.value, (name, node.lineno))
         for name, node in nodes(ast.BinOp, ast.AugAssign):
             self.assertNotIsInstance(node.op, (ast.Div, ast.MatMult), (name, node.lineno))
+
+    def test_only_own_errors_are_caught(self):
+        own = {node.name for node in TREES[PACKAGE / "errors.py"].body if isinstance(node, ast.ClassDef)}
+        for name, node in nodes(ast.Try):
+            self.assertEqual(node.finalbody, [], (name, node.lineno))
+            for handler in node.handlers:
+                self.assertIn(handler.type.id, own, (name, node.lineno))
 
     def test_sets_stand_in_sorted_and_len(self):
         def is_set(node):
