@@ -41,7 +41,7 @@ class Asker:
         self._goes[tuple(three)] = person
 
     def learned(self):
-        """The cards of the custom."""
+        """The cards of the custom; Unfinished is raised with the next three people if it is not yet known."""
         known = _leaders(self._goes, list(range(self.people)))
         # The first leader, the lesser one of the two who are left of all, is the host, and its card is the row.
         host, row = known[0]

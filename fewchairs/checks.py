@@ -1,7 +1,7 @@
 """What several files check of their arguments."""
 
 from fewchairs.crowds import size, within
-from fewchairs.errors import BadCrowd, BadKind, BadOrder, WrongHouse
+from fewchairs.errors import BadCrowd, BadCustom, BadKind, BadOrder, NoChair, WrongHouse
 
 
 def check_kind(house, kind):
@@ -49,6 +49,21 @@ def check_order(kinds, order):
             raise BadOrder(at)
     if len(order) < kinds:
         raise BadOrder(len(order))
+
+
+def check_answers(choices, answers):
+    """Raises BadCustom if there is not one answer for each list of choices, and one of these."""
+    for at, (allowed, kind) in enumerate(zip(choices, answers)):
+        if kind not in allowed:
+            raise BadCustom(at)
+    if len(answers) != len(choices):
+        raise BadCustom(min(len(answers), len(choices)))
+
+
+def check_chairs(most, chairs):
+    """Raises NoChair if the number of chairs is not from 1 to the most."""
+    if not 1 <= chairs <= most:
+        raise NoChair(chairs)
 
 
 def check_meeting(house, crowd):

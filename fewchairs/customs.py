@@ -1,6 +1,7 @@
 """Customs: who goes from each meeting of a house."""
 
-from fewchairs.checks import check_order
+from fewchairs.checks import check_answers, check_order
+from fewchairs.crowds import kinds_in
 from fewchairs.errors import BadCrowd, BadCustom
 from fewchairs.houses import House
 
@@ -10,7 +11,7 @@ class Custom:
 
     def __init__(self, house, answers):
         meetings = house.meetings()
-        _check_answers(meetings, answers)
+        check_answers([kinds_in(meeting) for meeting in meetings], answers)
         self.house = house
         self.answers = tuple(answers)
         self._goes = {meeting: kind for meeting, kind in zip(meetings, answers)}
@@ -48,15 +49,6 @@ class Custom:
         house = House(self.house.kinds, self.house.chairs, most=_renamed_crowd(self.house.most, names))
         goes = {_renamed_crowd(meeting, names): names[self._goes[meeting]] for meeting in self._goes}
         return Custom.of(house, goes)
-
-
-def _check_answers(meetings, answers):
-    """Raises BadCustom if the answers do not fit the meetings."""
-    for at, (meeting, kind) in enumerate(zip(meetings, answers)):
-        if not 0 <= kind < len(meeting) or meeting[kind] == 0:
-            raise BadCustom(at)
-    if len(answers) != len(meetings):
-        raise BadCustom(min(len(answers), len(meetings)))
 
 
 def _renamed_crowd(crowd, names):

@@ -22,6 +22,17 @@ def holds(custom, certificate):
     return False
 
 
+def group_rows(group):
+    """The list of the rows for each kind in the group: the others ascending, and then one guest of the kind."""
+    return [row_of(one_less(group, kind)) + [kind] for kind in kinds_in(group)]
+
+
+def is_row_of(row, crowd):
+    """Whether the row has just the guests of the crowd."""
+    return (len(row) == size(crowd)
+            and all([row.count(kind) == count for kind, count in enumerate(crowd)]))
+
+
 def _looks(custom):
     """The list of the pairs of each group and the chairs given up in it."""
     return [(group, given_up(custom, group)) for group in custom.house.groups()]
@@ -29,7 +40,7 @@ def _looks(custom):
 
 def _bound(custom, group):
     """The certificate of two rows of a group at which the custom does not pass the look."""
-    rows = [row_of(one_less(group, kind)) + [kind] for kind in kinds_in(group)]
+    rows = group_rows(group)
     first_end = left(custom, rows[0])
     # Rows of such a group never leave all the same crowd, so that there is a second row.
     second = [row for row in rows if left(custom, row) != first_end][0]
@@ -41,12 +52,6 @@ def _holds_bound(custom, crowd, rows, ends):
     if not custom.house.has(crowd) or ends[0] == ends[1]:
         return False
     # The rows are looked at before they run: a run may raise errors.
-    if not all([_is_row_of(row, crowd) for row in rows]):
+    if not all([is_row_of(row, crowd) for row in rows]):
         return False
     return all([left(custom, row) == end for row, end in zip(rows, ends)])
-
-
-def _is_row_of(row, crowd):
-    """Whether the row has just the guests of the crowd."""
-    return (len(row) == size(crowd)
-            and all([row.count(kind) == count for kind, count in enumerate(crowd)]))

@@ -5,6 +5,7 @@ import unittest
 
 from fewchairs.cardnumbers import cards_at, count_cards
 from fewchairs.customs import Custom
+from fewchairs.folks import Folk
 from fewchairs.houses import House
 from fewchairs.look import is_free
 from fewchairs.makers import order_custom
@@ -163,3 +164,56 @@ def small_nets():
         for second in kinds + [middle]:
             nets += [Net([first, second], route) for route in ([[0, 1], [1, 0]], [[0, 1], [0]])]
     return nets
+
+
+def free_rules(house):
+    """The rules of all order-free customs of the house."""
+    return [Rule(custom) for custom in all_customs(house) if is_free(custom)]
+
+
+def plainly_nested(rules):
+    """Whether each end with fewer chairs is within the end with more, for all crowds of the (small) house."""
+    return all(all(a <= b for a, b in zip(rule.end(crowd), wider.end(crowd)))
+               for rule, wider in zip(rules, rules[1:]) for crowd in all_crowds(rule.house.most))
+
+
+def rule_rows(most, chairs, step=1):
+    """All lists of rules with 1, 2, .. chairs, nested or not."""
+    choices = [free_rules(House(len(most), number, most=most)) for number in range(1, chairs + 1)]
+    return [list(rules) for rules in itertools.product(*choices)][::step]
+
+
+def row_chain(kinds, chairs, most=(), first=0):
+    """Nested rules: halls in a row with one chair each, by orders that begin with different kinds."""
+    rules = []
+    for at in range(first, first + chairs):
+        order = [(at + kind) % kinds for kind in range(kinds)]
+        rule = order_rule(House(kinds, 1, most=most), order[::-1] if at % 2 else order)
+        rules.append(rules[-1] >> rule if rules else rule)
+    return rules
+
+
+def all_folk(people, chairs):
+    """All folk of so many unlike people: all customs, and all joins."""
+    found = []
+    for custom in all_customs(House.unlike(people, chairs)):
+        choices = [[person for person in range(people) if meeting[person] and person != goes]
+                   for meeting, goes in custom.table().items()]
+        found += [Folk(custom, list(joins)) for joins in itertools.product(*choices)]
+    return found
+
+
+def plain_parting(folk, row):
+    """The parting of the row by the words of [60] and [61]."""
+    house = folk.custom.house
+    joins = dict(zip(crowds_of_size(house, house.chairs + 1), folk.joins))
+    groups = []
+    for person in row:
+        groups.append([person, {person}])
+        if len(groups) > house.chairs:
+            meeting = counted([head for head, _ in groups], house.kinds)
+            goer = [group for group in groups if group[0] == folk.custom(meeting)][0]
+            groups.remove(goer)
+            host = [group for group in groups if group[0] == joins[meeting]][0]
+            host[1] |= goer[1]
+    return [(head, tuple(sorted(members))) for head, members in sorted(groups)]

@@ -7,14 +7,9 @@ from fewchairs.errors import BadCrowd, WrongHouse
 from fewchairs.hallrows import held
 from fewchairs.halls import Hall
 from fewchairs.houses import House
-from fewchairs.look import is_free
 from fewchairs.makers import most_custom
 from fewchairs.rules import Rule
-from tests.helpers import GREATEST, MANY, Case, all_crowds, all_customs, all_rows, counted, order_rule
-
-
-def free_rules(house):
-    return [Rule(custom) for custom in all_customs(house) if is_free(custom)]
+from tests.helpers import GREATEST, MANY, Case, all_crowds, all_rows, counted, free_rules, order_rule
 
 
 def walked(rules, row):

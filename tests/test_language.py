@@ -154,12 +154,18 @@ class Names(unittest.TestCase):
             for part in node.body:
                 if isinstance(part, ast.FunctionDef):
                     decorators = [x.id for x in part.decorator_list if isinstance(x, ast.Name)]
-                    (properties if "property" in decorators else others).add(part.name)
+                    setter = any(isinstance(x, ast.Attribute) for x in part.decorator_list)
+                    (properties if "property" in decorators or setter else others).add(part.name)
+                if isinstance(part, ast.Assign):
+                    others |= {target.id for target in part.targets}
+        others |= {part.attr for _, part in nodes(ast.Attribute) if isinstance(part.ctx, ast.Store)}
         self.assertEqual(properties & others, set())
 
     def test_no_method_and_no_attribute_of_one_class_share_a_name(self):
         for name, node in nodes(ast.ClassDef):
-            methods = [part.name for part in node.body if isinstance(part, ast.FunctionDef)]
+            # A property and its setter are one.
+            methods = [part.name for part in node.body if isinstance(part, ast.FunctionDef)
+                       and not any(isinstance(found, ast.Attribute) for found in part.decorator_list)]
             stored = {part.attr for part in ast.walk(node)
                       if isinstance(part, ast.Attribute) and isinstance(part.ctx, ast.Store)}
             self.assertEqual(stored & set(methods), set(), (name, node.name))

@@ -14,6 +14,7 @@ NO_OPERATORS = {"__call__", "__setitem__", "__enter__", "__exit__"}
 CHANGING = set("""append clear extend insert pop remove reverse setdefault sort update add discard appendleft
     popleft extendleft rotate""".split())
 MAKING = {"list", "dict", "set", "sorted"}
+NEVER_CALLED = {"map", "chain", "product", "heappush", "heappop"}
 
 
 def own_definitions(trees):
@@ -143,8 +144,8 @@ def faults(trees):
                                                         and isinstance(node.value.value, int)
                                                         and isinstance(node.target, ast.Name)):
                 yield where, "adds on"
-            if isinstance(node, ast.Name) and node.id in ("map", "chain", "product", "heappush", "heappop"):
-                yield where, node.id
+            if isinstance(node, ast.Call) and isinstance(node.func, ast.Name) and node.func.id in NEVER_CALLED:
+                yield where, node.func.id
             if isinstance(node, (ast.Global, ast.Nonlocal)):
                 yield where, "binds outside"
         for node in calls_what_it_holds(function, definitions, imports):
